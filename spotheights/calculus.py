@@ -1,9 +1,9 @@
 """Differentiation of polynomials, and their pairing."""
 
 from spotheights.checks import check_same
-from spotheights.monomials import monomial_factorial
+from spotheights.monomials import monomial_factorial, monomials_up_to
 from spotheights.polynomials import Polynomial
-from spotheights.ratios import total
+from spotheights.ratios import Ratio, total
 
 
 def derivative(polynomial, variable):
@@ -23,6 +23,13 @@ def apply_operator(operator, polynomial):
                 times = monomial_factorial(exponents) // monomial_factorial(left)
                 terms.append((left, factor * number * times))
     return Polynomial(polynomial.dimension, terms)
+
+
+def all_derivatives(polynomial):
+    """The list of the derivatives of every order that can be other than zero, the polynomial itself first."""
+    dimension = polynomial.dimension
+    rules = [Polynomial(dimension, [(rule, Ratio(1))]) for rule in monomials_up_to(dimension, polynomial.degree)]
+    return [apply_operator(rule, polynomial) for rule in rules]
 
 
 def pairing(first, second):

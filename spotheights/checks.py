@@ -20,7 +20,12 @@ def check_entries(entries, dimension):
 
 def check_same(first, second):
     """Refuse two objects of unlike dimensions."""
-    if first.dimension != second.dimension:
+    check_dimension_of(second, first.dimension)
+
+
+def check_dimension_of(thing, dimension):
+    """Refuse an object of another dimension."""
+    if thing.dimension != dimension:
         raise WrongDimension("the dimensions are not the same")
 
 
@@ -37,6 +42,12 @@ def check_index(index, many):
     """Refuse an index that none of so many things has."""
     if index < 0 or index >= many:
         raise BadIndex("the index is negative or too large")
+
+
+def check_count(answers, many):
+    """Refuse a list that has not one answer for each of so many questions."""
+    if len(answers) != many:
+        raise WrongCount("there must be one answer for each question")
 
 
 def check_rows(rows, width):

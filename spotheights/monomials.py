@@ -52,6 +52,16 @@ def monomial_factorial(exponents):
     return product
 
 
+def has_all_divisors(monomials):
+    """Whether the list has, with each of its monomials, all divisors of it."""
+    found = {exponents: True for exponents in monomials}
+    for exponents in monomials:
+        for k in range(len(exponents)):
+            if exponents[k] > 0 and (*exponents[:k], exponents[k] - 1, *exponents[k + 1:]) not in found:
+                return False
+    return True
+
+
 def _check_pair(first, second):
     check_dimension(len(first))
     check_entries(second, len(first))

@@ -139,6 +139,14 @@ class Polynomial:
         return "".join(_written_pieces(self._pairs))
 
 
+def combination(dimension, polynomials, numbers):
+    """The sum of polynomials of this dimension, each times its number."""
+    terms = []
+    for polynomial, number in zip(polynomials, numbers):
+        terms.extend([(exponents, factor * number) for exponents, factor in polynomial.terms()])
+    return Polynomial(dimension, terms)
+
+
 def _powers(number, degree):
     """The powers of the number from the power 0 up to this degree."""
     powers = [Ratio(1)]

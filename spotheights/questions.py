@@ -1,6 +1,5 @@
 """Questions: what is asked of a polynomial at a spot."""
 
-from spotheights.calculus import apply_operator
 from spotheights.checks import check_dimension, check_same
 from spotheights.errors import TooLarge, WrongDimension, ZeroOperator
 from spotheights.monomials import monomial_factorial, monomials_up_to
@@ -39,18 +38,23 @@ class Question:
     def ask(self, polynomial):
         """The answer of the polynomial."""
         check_same(self, polynomial)
-        return total([number * self._monomial_answer(exponents) for exponents, number in polynomial.terms()])
+        pairs = polynomial.terms()
+        answers = self.answers_to([pair[0] for pair in pairs])
+        return total([pair[1] * answer for pair, answer in zip(pairs, answers)])
+
+    def answers_to(self, monomials):
+        """The list of the answers of the monomials."""
+        greatest = max([exponent for exponents in monomials for exponent in exponents], default=0)
+        powers = [_power_pairs(coordinate, greatest) for coordinate in self.spot]
+        rules = self.operator.terms()
+        return [_monomial_answer(rules, exponents, powers) for exponents in monomials]
 
     def series(self, degree):
         """The polynomial whose pairing with each polynomial of at most this degree is the answer."""
-        terms = []
-        for exponents in monomials_up_to(self.dimension, degree):
-            answer = self._monomial_answer(exponents)
-            terms.append((exponents, answer.over(monomial_factorial(exponents))))
+        places = list(monomials_up_to(self.dimension, degree))
+        answers = self.answers_to(places)
+        terms = [(place, answer.over(monomial_factorial(place))) for place, answer in zip(places, answers)]
         return Polynomial(self.dimension, terms)
-
-    def _monomial_answer(self, exponents):
-        return apply_operator(self.operator, Polynomial.monomial(exponents)).value_at(self.spot)
 
     def __eq__(self, other):
         return isinstance(other, Question) and self.spot == other.spot and self.operator == other.operator
@@ -66,6 +70,30 @@ def _checked_spot(spot):
         if abs(coordinate.top) > LARGEST or coordinate.bottom > LARGEST:
             raise TooLarge("a coordinate has a top or a bottom above 999")
     return tuple(spot)
+
+
+def _power_pairs(number, greatest):
+    """The tops and the bottoms of the powers of the number, as pairs, from the power 0 up to the greatest one."""
+    pairs = [(1, 1)]
+    for _ in range(greatest):
+        top, bottom = pairs[-1]
+        pairs.append((top * number.top, bottom * number.bottom))
+    return pairs
+
+
+def _monomial_answer(rules, exponents, powers):
+    """The value of what the terms of an operator make of a monomial, where the coordinates have these powers."""
+    values = []
+    for rule, factor in rules:
+        left = [high - low for low, high in zip(rule, exponents)]
+        if min(left) >= 0:
+            top = factor.top * (monomial_factorial(exponents) // monomial_factorial(left))
+            bottom = factor.bottom
+            for row, exponent in zip(powers, left):
+                top = top * row[exponent][0]
+                bottom = bottom * row[exponent][1]
+            values.append(Ratio(top, bottom))
+    return total(values)
 
 
 def _written_words(spot, operator):

@@ -26,6 +26,20 @@ FUNCTIONS = {
         "determinant": ["rows"], "invert": ["rows"],
     },
     "questiontext": {"read_question": ["text", "dimension"]},
+    "spacetools": {
+        "is_graded": ["space"], "is_closed": ["space"], "derived_space": ["space"],
+        "changed_space": ["space", "matrix"], "generators": ["space"],
+    },
+    "leastspace": {"least_space": ["lot"], "least_rows": ["lot"], "ranks": ["lot"]},
+    "fitting": {
+        "fit": ["lot", "answers"], "project": ["lot", "polynomial"], "fit_certificate": ["lot", "answers"],
+    },
+    "weights": {
+        "weights_for": ["lot", "question"], "exact_degree": ["lot", "question"], "error_part": ["lot", "question"],
+        "exactness": ["lot", "question"],
+    },
+    "membership": {"belonging": ["lot", "polynomial"]},
+    "orders": {"read_order": ["text"]},
 }
 
 CLASSES = {
@@ -46,11 +60,49 @@ CLASSES = {
         "__init__": ["self", "spot", "operator"], "ask": ["self", "polynomial"], "series": ["self", "degree"],
         "height": ["cls", "spot"], "slope": ["cls", "spot", "index"], "__eq__": 2, "__str__": 1,
     }},
+    "lots": {"Lot": {
+        "__init__": ["self", "dimension", "questions"], "__len__": 1, "__iter__": 1, "__eq__": 2,
+        "question_at": ["self", "index"], "ask": ["self", "polynomial"], "table": ["self", "monomials"], "__add__": 2,
+        "__mul__": 2, "with_question": ["self", "question"], "part": ["self", "indexes"], "shifted": ["self", "by"],
+        "changed": ["self", "matrix"], "empty": ["cls", "dimension"], "heights": ["cls", "dimension", "spots"],
+    }},
+    "spaces": {"Space": {
+        "__init__": ["self", "dimension", "polynomials"], "degree": ["self"], "__len__": 1, "__iter__": 1,
+        "__contains__": 2, "__eq__": 2, "counts": ["self"], "up_to": ["self", "degree"],
+        "coordinates": ["self", "polynomial"], "__add__": 2, "__mul__": 2, "projection": ["self", "polynomial"],
+    }},
+    "fitting": {"Fitter": {
+        "__init__": ["self", "lot"], "__call__": ["self", "answers"], "cardinal": ["self", "index"],
+        "cardinals": ["self"],
+    }},
+    "orders": {"Order": {
+        "__init__": ["self", "kind", "ranking"], "precedes": ["self", "first", "second"],
+        "arranged": ["self", "monomials"], "__eq__": 2, "__str__": 1,
+    }},
+    "certificates": {
+        "Certificate": {"__init__": ["self", "lot"], "holds": ["self"], "polynomials": ["self"],
+                        "weight_lists": ["self"], "line": ["self"]},
+        "Member": {"__init__": ["self", "lot", "polynomial", "rows"], "holds": ["self"]},
+        "NonMember": {"__init__": ["self", "lot", "polynomial", "obstruction"], "holds": ["self"]},
+        "LeastDegree": {"__init__": ["self", "lot", "answers", "polynomial", "weights"], "holds": ["self"]},
+        "ExactAlways": {"__init__": ["self", "lot", "question", "weights"], "holds": ["self"]},
+        "ExactUpTo": {"__init__": ["self", "lot", "question", "weights", "exact_degree", "miss"], "holds": ["self"]},
+    },
+    "verdicts": {
+        "Fits": {"__init__": ["self", "lot", "space", "cardinals"], "holds": ["self"]},
+        "Gap": {"__init__": ["self", "lot", "space", "member", "weights"], "holds": ["self"]},
+        "Keeps": {"__init__": ["self", "lot", "space", "fitted"], "holds": ["self"]},
+        "Raises": {"__init__": ["self", "lot", "space", "exponents", "fitted"], "holds": ["self"]},
+        "Closed": {"__init__": ["self", "lot", "tables"], "holds": ["self"]},
+        "Spoiled": {"__init__": ["self", "lot", "polynomial", "variable", "index"], "holds": ["self"]},
+        "Stairs": {"__init__": ["self", "lot", "levels"], "holds": ["self"]},
+        "Crossed": {"__init__": ["self", "lot", "variable", "first", "second"], "holds": ["self"]},
+    },
 }
 
 DECORATORS = {"read": "staticmethod", "zero": "classmethod", "constant": "classmethod", "coordinate": "classmethod",
               "monomial": "classmethod", "height": "classmethod", "slope": "classmethod", "degree": "property",
-              "low_degree": "property"}
+              "low_degree": "property", "empty": "classmethod", "heights": "classmethod"}
 
 
 def parameters(function):
@@ -81,7 +133,8 @@ class Interface(unittest.TestCase):
             found = defined(name, ast.ClassDef)
             for kind, methods in wanted.items():
                 inside = {node.name: node for node in found[kind].body if isinstance(node, ast.FunctionDef)}
-                self.assertEqual(found[kind].bases, [])
+                base = ["Certificate"] if name in ["certificates", "verdicts"] and kind != "Certificate" else []
+                self.assertEqual([ast.unparse(node) for node in found[kind].bases], base)
                 for method, told in methods.items():
                     with self.subTest(kind + "." + method):
                         names = parameters(inside[method])

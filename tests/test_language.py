@@ -41,6 +41,11 @@ BAD_STARTS = ("_wall", "_pe_", "_dcw_", "_enum_", "_cm_", "_twin_re_", "_lay_", 
               "_cold", "_tuplegetter", "_outside", "_record", "_written_out", "_member_names")
 STATEMENTS = (ast.FunctionDef, ast.ClassDef, ast.Assign, ast.Return, ast.If, ast.While, ast.For, ast.Break,
               ast.Continue, ast.Pass, ast.Raise, ast.Assert, ast.Delete, ast.Try, ast.Expr, ast.ImportFrom)
+RUN_BY_SIGNS = set("""
+    __eq__ __repr__ __str__ __len__ __iter__ __lt__ __le__ __gt__ __ge__ __ne__ __add__ __sub__ __mul__ __radd__
+    __rsub__ __rmul__ __neg__ __pos__ __invert__ __abs__ __bool__ __contains__ __getitem__
+""".split())
+MODIFYING = set("append clear extend insert pop remove reverse setdefault update sort add discard".split())
 AT_ONCE = {"list", "tuple", "dict", "sorted", "sum", "any", "all", "enumerate", "zip", "min", "max"}
 LAZY = {"zip", "enumerate", "reversed", "range"}
 
@@ -188,8 +193,26 @@ def classes(file, files):
             yield f"L18 {node.name}"
         if (node.bases or node.name in base_names(files)) and {"__radd__", "__rmul__", "__rsub__"} & set(methods):
             yield f"L5 {node.name}"
+        for part in node.body:
+            value = isinstance(part, ast.Assign) and isinstance(part.value, ast.Constant) and len(part.targets) == 1
+            docstring = isinstance(part, ast.Expr) and isinstance(part.value, ast.Constant)
+            if not value and not docstring and not isinstance(part, ast.FunctionDef):
+                yield f"L5 body of {node.name}"
+        if {"__getitem__"} & set(methods) and "__iter__" not in methods:
+            yield f"L5 {node.name}"
+        # Attributes and methods of the classes above and below count as well.
+        for name in family(node.name, files):
+            above = [other for one in files for other in one.of(ast.ClassDef) if other.name == name][0]
+            if attributes & {part.name for part in above.body if isinstance(part, ast.FunctionDef)}:
+                yield f"L18 {node.name}"
     for node in file.of(ast.FunctionDef):
         inside = isinstance(file.parents[node], ast.ClassDef)
+        if node.name == "__iter__" and not re.fullmatch(r"return iter\(self\.\w+\)", ast.unparse(node.body[-1])):
+            yield "L5 __iter__"
+        if node.name == "__iter__" and len(node.body) > 1:
+            yield "L5 __iter__"
+        if node.name == "__len__" and not ast.unparse(node.body[-1]).startswith("return len("):
+            yield "L28 __len__"
         for decorator in node.decorator_list:
             if not inside or ast.unparse(decorator) not in {"property", "staticmethod", "classmethod"}:
                 yield f"L4 {node.name}"
@@ -204,6 +227,19 @@ def classes(file, files):
                 yield f"L28 {node.name}"
         if node.name == "__init__" and any(isinstance(part, ast.Return) for part in ast.walk(node)):
             yield "L28 __init__"
+
+
+def family(name, files):
+    """The names of the classes of the package above and below the class with this name."""
+    bases = {node.name: {ast.unparse(base) for base in node.bases}
+             for file in files for node in file.of(ast.ClassDef)}
+    found = {name}
+    while True:
+        more = {other for other in bases if bases[other] & found} | {base for other in found
+                                                                     for base in bases.get(other, []) if base in bases}
+        if more <= found:
+            return sorted((found & set(bases)) - {name})
+        found = found | more
 
 
 def base_names(files):
@@ -303,9 +339,14 @@ def calls(file, files):
             name = "zip"
         if name in LAZY | generators and not is_iterated(file, node):
             yield f"L23 line {node.lineno}"
-        if name in {"bytes", "chr", "print", "open", "set", "frozenset", "map", "pow", "getattr", "setattr", "iter",
-                    "next"}:
+        if name in {"bytes", "chr", "print", "open", "set", "frozenset", "map", "pow", "getattr", "setattr", "next"}:
             yield f"L8 {name}"
+        if name == "iter" and getattr(file.parents[file.parents[node]], "name", "") != "__iter__":
+            yield "L8 iter"
+        if name == "super":
+            used = file.parents[file.parents[node]]
+            if not isinstance(used, ast.Call) or file.parents[node].attr != "__init__":
+                yield f"L5 super: line {node.lineno}"
         if hasattr(builtins, name):
             allowed = {"sorted": {"key", "reverse"}, "min": {"key", "default"}, "max": {"key", "default"},
                        "sum": {"start"}, "enumerate": {"start"}, "zip": {"strict"}}
@@ -317,6 +358,67 @@ def calls(file, files):
             yield f"star: line {node.lineno}"
         if name in NOWHERE or hasattr(builtins, name) and name not in BUILTINS:
             yield f"L8 {name}"
+
+
+def run_by_signs(files):
+    """The functions and methods that operators, properties and the like run, directly or through others."""
+    defined = {}
+    found = []
+    for file in files:
+        for node in file.of(ast.FunctionDef):
+            home = file.parents[node]
+            defined.setdefault(node.name, []).append(node)
+            if node.name == "__init__":
+                defined.setdefault(home.name, []).append(node)
+            if node.name in RUN_BY_SIGNS or "property" in [ast.unparse(part) for part in node.decorator_list]:
+                found.append(node)
+    for node in found:
+        for part in ast.walk(node):
+            if isinstance(part, ast.Call):
+                name = part.func.attr if isinstance(part.func, ast.Attribute) else getattr(part.func, "id", "")
+                found.extend([other for other in defined.get(name, []) if other not in found])
+    return found
+
+
+def is_created(value):
+    """Whether a value is a new list or dict whatever happens."""
+    if isinstance(value, (ast.List, ast.Dict, ast.ListComp, ast.DictComp)):
+        return True
+    if isinstance(value, ast.Call) and isinstance(value.func, ast.Name):
+        return value.func.id in {"list", "dict", "sorted"}
+    if isinstance(value, ast.BinOp):
+        return isinstance(value.op, ast.Mult) and isinstance(value.left, ast.List)
+    return isinstance(value, ast.Subscript) and isinstance(value.slice, ast.Slice)
+
+
+def signs(file, files):
+    """L5: what operators, properties, `==`, `str` and `len` run changes only lists and dicts that it created."""
+    for node in [one for one in run_by_signs(files) if one in file.parents]:
+        told = {part.arg for part in ast.walk(node) if isinstance(part, ast.arg)}
+        bound = {}
+        for part in ast.walk(node):
+            if isinstance(part, ast.Assign) and isinstance(part.targets[0], ast.Name):
+                bound.setdefault(part.targets[0].id, []).append(part.value)
+        loops = {part.id for part in ast.walk(node) if isinstance(part, ast.Name) and isinstance(part.ctx, ast.Store)
+                 and not isinstance(file.parents[part], ast.Assign)}
+        own = {name for name in bound if all([is_created(value) for value in bound[name]])} - told - loops
+        for part in ast.walk(node):
+            if isinstance(part, ast.Subscript) and not isinstance(part.ctx, ast.Load):
+                if not isinstance(part.value, ast.Name) or part.value.id not in own:
+                    yield f"L5 item in {node.name}"
+            if isinstance(part, ast.Attribute) and not isinstance(part.ctx, ast.Load):
+                if node.name != "__init__" or ast.unparse(part.value) != node.args.args[0].arg:
+                    yield f"L5 attribute in {node.name}"
+            if isinstance(part, ast.Call) and isinstance(part.func, ast.Attribute) and part.func.attr in MODIFYING:
+                target = part.func.value
+                if isinstance(target, ast.Call) and ast.unparse(target.func).endswith(".setdefault"):
+                    target = target.func.value
+                if not isinstance(target, ast.Name) or target.id not in own:
+                    yield f"L5 {part.func.attr} in {node.name}"
+            if isinstance(part, ast.Call) and isinstance(part.func, ast.Name) and part.func.id in told | set(bound) | loops:
+                yield f"L5 call in {node.name}"
+            if isinstance(part, (ast.Global, ast.Nonlocal)):
+                yield f"L5 {node.name}"
 
 
 def is_iterated(file, node):
@@ -345,7 +447,7 @@ def words(file, files):
             before = token.type
 
 
-RULES = [form, imports, top_level, classes, statements, values, names, calls, words]
+RULES = [form, imports, top_level, classes, statements, values, names, calls, signs, words]
 
 
 def cycles(files):
@@ -424,6 +526,22 @@ class C:
     def a(self): self.a = 1
     def a(self): return 2
     def __init__(self): return None
+    b = sum([])
+    def __len__(self): return 3
+    def __iter__(self):
+        for row in self.rows: yield row
+    def __add__(self, other):
+        self.rows.append(1)
+        other[0] = 2
+        self.n = 3
+        return changes(self.rows)
+    def __eq__(self, other): return other(self)
+    def b2(self): return super().b2()
+def changes(rows):
+    rows.pop()
+    own = []
+    own.append(1)
+    return iter(rows)
 """ + "d = '" + "x" * 120 + "'\n" + "e = '\u00e9'\n" + "def long():\n" + "    pass\n" * 41 + "\n" * 400
 
 
@@ -437,6 +555,27 @@ class Rules(unittest.TestCase):
                        "L20", "L22", "L23", "L25", "L27", "L28"]:
             with self.subTest(number):
                 self.assertRegex(found, number + r"\b")
+
+    def test_changes_by_operators_are_found(self):
+        broken = File("Len", BROKEN)
+        found = list(signs(broken, [broken]))
+        self.assertEqual(sorted(found), ["L5 append in __add__", "L5 attribute in __add__", "L5 call in __eq__",
+                                         "L5 item in __add__", "L5 pop in changes"])
+        found = list(classes(broken, [broken])) + list(calls(broken, [broken]))
+        for text in ["L5 body of C", "L5 __iter__", "L28 __len__", "L8 iter"]:
+            self.assertIn(text, found)
+        self.assertIn("L5 super", " ".join(found))
+
+    def test_what_operators_run_is_looked_through(self):
+        names = {node.name for node in run_by_signs(package())}
+        for name in ["kernel", "echelon", "coordinates", "embedded", "_canonical_basis", "_check_independent"]:
+            self.assertIn(name, names)
+
+    def test_names_in_families_of_classes_are_found(self):
+        first = File("a", "class A:\n    def low(self): return 1\n")
+        second = File("b", "class B(A):\n    def __init__(self): self.low = 2\nclass D(B):\n    pass\n")
+        self.assertEqual(family("A", [first, second]), ["B", "D"])
+        self.assertIn("L18 B", list(classes(second, [first, second])))
 
     def test_cycles_are_found(self):
         first, second = File("a", "from spotheights.b import c"), File("b", "from spotheights.a import d")
