@@ -1,8 +1,7 @@
 """Spaces of polynomials, kept by their canonical bases."""
 
 from spotheights.calculus import pairing
-from spotheights.checks import GREATEST_DEGREE, check_dimension, check_dimension_of, check_same
-from spotheights.errors import TooLarge
+from spotheights.checks import check_dimension, check_dimension_of, check_same
 from spotheights.matrices import common_bottom, echelon, solve
 from spotheights.monomials import standard_place
 from spotheights.polynomials import Polynomial, combination
@@ -73,8 +72,6 @@ class Space:
             return NotImplemented
         dimension = self.dimension + other.dimension
         check_dimension(dimension)
-        if self._members and len(other) > 0 and self.degree + other.degree > GREATEST_DEGREE:
-            raise TooLarge("the degrees of two members add up to more than 16")
         lower = [embedded(member, dimension, 0) for member in self._members]
         upper = [embedded(member, dimension, self.dimension) for member in other]
         return Space(dimension, [first * second for first in lower for second in upper])

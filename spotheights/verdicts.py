@@ -92,7 +92,8 @@ class Keeps(Certificate):
         """Whether each monomial below the degree of the space has a polynomial of the space that fits it."""
         if not self._goes_together() or self.space.dimension != self.lot.dimension:
             return False
-        places = list(monomials_up_to(self.lot.dimension, self.space.degree - 1))
+        greatest = self.space.degree - 1
+        places = list(monomials_up_to(self.lot.dimension, greatest))
         if len(self.fitted) != len(places):
             return False
         for place, polynomial in zip(places, self.fitted):

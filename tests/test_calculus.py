@@ -1,7 +1,7 @@
 import unittest
 from math import factorial
 
-from spotheights.calculus import apply_operator, derivative, pairing
+from spotheights.calculus import all_derivatives, apply_operator, derivative, pairing
 from spotheights.errors import BadIndex, WrongDimension
 from spotheights.monomials import monomials_up_to
 from spotheights.polynomials import Polynomial
@@ -103,6 +103,16 @@ class Pairings(unittest.TestCase):
                 self.assertEqual(found, apply_operator(first, second)([Ratio(0)] * dimension))
                 self.assertEqual(found, pairing(second, first))
                 self.assertEqual(pairing(first, first).sign(), 1 if first else 0)
+
+
+class AllDerivatives(unittest.TestCase):
+
+    def test_by_hand(self):
+        found = all_derivatives(poly("-3 y + x y"))
+        self.assertEqual([str(one) for one in found], ["-3 y + x y", "y", "-3 + x", "0", "1", "0"])
+        self.assertEqual(all_derivatives(poly("0", 1)), [])
+        self.assertEqual(all_derivatives(poly("5", 3)), [poly("5", 3)])
+        self.assertEqual([str(one) for one in all_derivatives(poly("x^4", 1))], ["x^4", "4 x^3", "12 x^2", "24 x", "24"])
 
 
 if __name__ == "__main__":

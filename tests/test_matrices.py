@@ -3,12 +3,12 @@ import unittest
 from fractions import Fraction
 
 from spotheights.errors import WrongCount
-from spotheights.matrices import determinant, invert, kernel, rank, solve
+from spotheights.matrices import determinant, echelon, invert, kernel, rank, row_sum, solve
 from spotheights.ratios import Ratio
 from tests.helpers import Drawn, fraction, ratio, ratios, table, texts
 
 
-def echelon(rows, width):
+def echelon_by_fractions(rows, width):
     """The reduced echelon form by Python's own fractions, and its pivot columns."""
     left = [[fraction(number) for number in row] for row in rows]
     pivots = []
@@ -51,8 +51,8 @@ class Solving(unittest.TestCase):
     def assert_solved(self, rows, right, width):
         found = solve(rows, right, width=width)
         self.assertIsInstance(found, tuple)
-        pivots = echelon(rows, width)[1]
-        more = echelon([list(row) + [number] for row, number in zip(rows, right)], width + 1)[1]
+        pivots = echelon_by_fractions(rows, width)[1]
+        more = echelon_by_fractions([list(row) + [number] for row, number in zip(rows, right)], width + 1)[1]
         self.assertIs(found[0], len(pivots) == len(more))
         self.assertIsInstance(found[1], list)
         for number in found[1]:
@@ -141,7 +141,7 @@ class Kernels(unittest.TestCase):
     def test_many_kernels(self):
         for rows, width in systems():
             found = kernel(rows, width=width)
-            pivots = echelon(rows, width)[1]
+            pivots = echelon_by_fractions(rows, width)[1]
             free = [column for column in range(width) if column not in pivots]
             self.assertEqual(len(found), len(free))
             for column, numbers in zip(free, found):
@@ -182,7 +182,7 @@ class Ranks(unittest.TestCase):
 
     def test_many_ranks(self):
         for rows, width in systems():
-            self.assertEqual(rank(rows), len(echelon(rows, width)[1]))
+            self.assertEqual(rank(rows), len(echelon_by_fractions(rows, width)[1]))
 
     def test_without_rows_or_columns(self):
         self.assertEqual([rank([]), rank([[]]), rank([[], []]), rank(table("0 0"))], [0, 0, 0, 0])
@@ -313,6 +313,32 @@ class LongNumbers(unittest.TestCase):
         good, found = invert([[big, Ratio(1)], [Ratio(0), big]])
         self.assertTrue(good)
         self.assertEqual([found[0][0] * big, found[0][1] * big * big, found[1][0]], [1, -1, 0])
+
+
+class Echelons(unittest.TestCase):
+
+    def test_what_is_left_is_zero_in_the_first_columns(self):
+        rows = table("1 2 1 0 0", "1/2 1 0 1 0", "0 0 3 0 1/3")
+        reduced, pivots, left = echelon(rows, 2)
+        self.assertEqual((reduced, pivots), ([[1, 2, 1, 0, 0]], [0]))
+        self.assertEqual(left, [[0, 0, -1, 2, 0], [0, 0, 9, 0, 1]])
+        self.assertEqual([texts(row) for row in rows][2], ["0", "0", "3", "0", "1/3"])
+
+    def test_many(self):
+        for rows, width in systems():
+            for first in range(width + 1):
+                reduced, pivots, left = echelon(rows, first)
+                self.assertEqual(pivots, echelon_by_fractions(rows, first)[1])
+                self.assertEqual((len(reduced), len(reduced) + len(left)), (len(pivots), len(rows)))
+                for row in left:
+                    self.assertEqual(row[:first], [0] * first)
+
+    def test_row_sums(self):
+        rows = table("1 2", "1/2 -1")
+        self.assertEqual(texts(row_sum(ratios("2 -4"), rows, width=2)), ["0", "8"])
+        self.assertEqual(texts(row_sum(ratios("0 0"), rows, width=2)), ["0", "0"])
+        self.assertEqual(row_sum([], [], width=3), [0, 0, 0])
+        self.assertEqual([texts(row) for row in rows], [["1", "2"], ["1/2", "-1"]])
 
 
 if __name__ == "__main__":

@@ -4,7 +4,8 @@ import math
 import unittest
 
 from spotheights.errors import WrongDimension
-from spotheights.monomials import comes_before, divides, monomial_factorial, monomials_of_degree, monomials_up_to
+from spotheights.monomials import comes_before, divides, has_all_divisors, monomial_factorial
+from spotheights.monomials import monomials_of_degree, monomials_up_to
 
 
 def all_of_degree(dimension, degree):
@@ -110,6 +111,15 @@ class Factorials(unittest.TestCase):
         for exponents in [(), (1, 1, 1, 1)]:
             with self.assertRaises(WrongDimension):
                 monomial_factorial(exponents)
+
+
+class Divisors(unittest.TestCase):
+
+    def test_all_divisors(self):
+        for places, wanted in [([], True), ([(0, 0)], True), ([(1, 0)], False), ([(1, 0), (0, 0)], True),
+                               ([(0, 0), (1, 1), (1, 0), (0, 1)], True), ([(0, 0), (1, 1), (1, 0)], False),
+                               ([(0,), (2,)], False), ([(2,), (0,), (1,), (1,)], True), ([(0, 0, 0), (0, 0, 1)], True)]:
+            self.assertIs(has_all_divisors(places), wanted)
 
 
 if __name__ == "__main__":

@@ -3,7 +3,7 @@ from fractions import Fraction
 
 from spotheights.errors import BadIndex, BadMonomial, TooLarge, WrongDimension
 from spotheights.monomials import monomials_up_to
-from spotheights.polynomials import Polynomial
+from spotheights.polynomials import Polynomial, combination
 from spotheights.ratios import Ratio
 from tests.helpers import Drawn, fraction, poly, ratios, texts
 
@@ -271,6 +271,15 @@ class Writing(unittest.TestCase):
     def test_long_numbers(self):
         self.assertEqual(self.written(1, ((0,), (10 ** 6000,)), ((2,), (-1, 10 ** 5000))),
                          "1" + "0" * 6000 + " - 1/1" + "0" * 5000 + " x^2")
+
+
+class Combinations(unittest.TestCase):
+
+    def test_combinations(self):
+        found = combination(2, [poly("1 + x"), poly("x - y^2"), poly("y")], ratios("2 -1/2 0"))
+        self.assertEqual(str(found), "2 + 3/2 x + 1/2 y^2")
+        self.assertEqual(combination(3, [], []), poly("0", 3))
+        self.assertEqual(combination(1, [poly("x", 1), poly("x", 1)], ratios("1 -1")), poly("0", 1))
 
 
 if __name__ == "__main__":

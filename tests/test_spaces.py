@@ -70,6 +70,8 @@ class Bases(unittest.TestCase):
         for other in [poly("x", 1), poly("0", 3)]:
             with self.assertRaises(WrongDimension):
                 Space(2, [poly("x"), other])
+            with self.assertRaises(WrongDimension):
+                Space(2, [other])
 
     def test_copied(self):
         polynomials = [poly("x"), poly("1 + x")]
@@ -247,6 +249,8 @@ class Products(unittest.TestCase):
                 Space(first) * Space(second)
             with self.assertRaises(WrongDimension):
                 Space(first, [poly("x^8", first)]) * Space(second, [poly("x^8", second)])
+            with self.assertRaises(WrongDimension):
+                Space(first, [poly("x^9", first)]) * Space(second, [poly("x^8", second)])
         high = space("1", "x^8", dimension=1)
         self.assertEqual((high * high).degree, 16)
         higher = space("x + x^9", dimension=1)

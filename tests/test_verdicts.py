@@ -212,6 +212,8 @@ class RaisedDegrees(Checks):
     def test_exponents(self):
         for exponents in [(), (1,), (1, 0, 0), (-1, 1), (1, -1), (2, -1), (-1, 0), (17, 0), (9, 8), (-1, 17), (16, 1)]:
             self.assert_fails(Raises(PAIR, BAND, exponents, poly("x y")))
+        for exponents in [(2, -1), (-1, 2), (1, -1)]:
+            self.assert_fails(Raises(PAIR, space("1", "x^2 - x y"), exponents, poly("x^2 - x y")))
         self.assert_fails(Raises(PAIR, BAND, (10 ** 20, 0), poly("x y")))
         self.assert_fails(Raises(PAIR, BAND, (16, 0), poly("x y")))
         self.assert_fails(Raises(PAIR, BAND, (0, 16), poly("x^16")))
