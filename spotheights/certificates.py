@@ -33,10 +33,10 @@ class Certificate:
         """The name of the certificate, and whether it holds."""
         return f"{self.NAME}: holds" if self.holds() else f"{self.NAME}: does not hold"
 
-    def _goes_together(self):
-        """Whether the polynomials have the dimension of the lot, and the lists of weights its length."""
+    def _goes_together(self, others=()):
+        """Whether the polynomials and the others have the dimension of the lot, and the lists of weights its length."""
         dimension = self.lot.dimension
-        alike = all([polynomial.dimension == dimension for polynomial in self.polynomials()])
+        alike = all([thing.dimension == dimension for thing in [*self.polynomials(), *others]])
         return alike and all([len(weights) == len(self.lot) for weights in self.weight_lists()])
 
 
@@ -137,7 +137,7 @@ class ExactAlways(Certificate):
 
     def holds(self):
         """Whether the weighted operators add up to the question's at its spot, and to zero at the others."""
-        if not self._goes_together() or self.question.dimension != self.lot.dimension:
+        if not self._goes_together([self.question]):
             return False
         for spot in [self.question.spot, *[question.spot for question in self.lot]]:
             wanted = Polynomial.zero(self.lot.dimension)
@@ -167,7 +167,7 @@ class ExactUpTo(Certificate):
 
     def holds(self):
         """Whether the weights are exact up to the degree, and the miss has the next one and is seen by the question."""
-        if not self._goes_together() or self.question.dimension != self.lot.dimension:
+        if not self._goes_together([self.question]):
             return False
         if self.exact_degree < -1 or self.exact_degree > GREATEST_EXACT_DEGREE:
             return False

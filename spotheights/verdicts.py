@@ -22,9 +22,7 @@ class Fits(Certificate):
     def holds(self):
         """Whether the cardinal polynomials are such, and as many as the members of the space and the questions."""
         many = len(self.lot)
-        if not self._goes_together() or self.space.dimension != self.lot.dimension:
-            return False
-        if len(self.space) != many or len(self.cardinals) != many:
+        if not self._goes_together([self.space]) or len(self.space) != many or len(self.cardinals) != many:
             return False
         for k, polynomial in enumerate(self.cardinals):
             if polynomial not in self.space or self.lot.ask(polynomial) != [int(i == k) for i in range(many)]:
@@ -50,9 +48,7 @@ class Gap(Certificate):
 
     def holds(self):
         """Whether there is a member or a list of weights, and each that there is shows that the space does not fit."""
-        if not self._goes_together() or self.space.dimension != self.lot.dimension:
-            return False
-        if self.member is None and self.weights is None:
+        if not self._goes_together([self.space]) or (self.member is None and self.weights is None):
             return False
         return self._member_is_missed() and self._weights_refute()
 
@@ -90,7 +86,7 @@ class Keeps(Certificate):
 
     def holds(self):
         """Whether each monomial below the degree of the space has a polynomial of the space that fits it."""
-        if not self._goes_together() or self.space.dimension != self.lot.dimension:
+        if not self._goes_together([self.space]):
             return False
         greatest = self.space.degree - 1
         places = list(monomials_up_to(self.lot.dimension, greatest))
@@ -120,7 +116,7 @@ class Raises(Certificate):
 
     def holds(self):
         """Whether the polynomial is of the space, has the answers of the monomial, and has a higher degree."""
-        if not self._goes_together() or self.space.dimension != self.lot.dimension:
+        if not self._goes_together([self.space]):
             return False
         if len(self.exponents) != self.lot.dimension or min(self.exponents) < 0:
             return False

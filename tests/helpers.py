@@ -1,5 +1,6 @@
 """What several tests share."""
 
+import unittest
 from fractions import Fraction
 
 from spotheights.errors import Dependent, TooWide
@@ -83,6 +84,17 @@ def fraction(number):
 def ratio(value):
     value = Fraction(value)
     return Ratio(value.numerator, value.denominator)
+
+
+class Checks(unittest.TestCase):
+    """A test case that asks certificates whether they hold."""
+
+    def assert_holds(self, certificate, wanted=True):
+        self.assertIs(certificate.holds(), wanted)
+        self.assertEqual(certificate.line(), certificate.NAME + (": holds" if wanted else ": does not hold"))
+
+    def assert_fails(self, certificate):
+        self.assert_holds(certificate, False)
 
 
 class Drawn:

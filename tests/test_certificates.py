@@ -5,19 +5,9 @@ from spotheights.leastspace import least_rows, least_space
 from spotheights.lots import Lot
 from spotheights.questions import Question
 from spotheights.ratios import Ratio
-from tests.helpers import ask, lot, many_lots, poly, ratio, ratios, table, texts
+from tests.helpers import Checks, ask, lot, many_lots, poly, ratio, ratios, table, texts
 
 DIAGONAL = lot("at 0 0", "at 1 1", "at 2 2")
-
-
-class Checks(unittest.TestCase):
-
-    def assert_holds(self, certificate, wanted=True):
-        self.assertIs(certificate.holds(), wanted)
-        self.assertEqual(certificate.line(), certificate.NAME + (": holds" if wanted else ": does not hold"))
-
-    def assert_fails(self, certificate):
-        self.assert_holds(certificate, False)
 
 
 class Bases(Checks):

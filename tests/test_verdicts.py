@@ -9,7 +9,7 @@ from spotheights.polynomials import Polynomial
 from spotheights.ratios import Ratio
 from spotheights.spaces import Space
 from spotheights.verdicts import Closed, Crossed, Fits, Gap, Keeps, Raises, Spoiled, Stairs
-from tests.helpers import lot, many_lots, poly, ratios, space, table, texts
+from tests.helpers import Checks, lot, many_lots, poly, ratios, space, table, texts
 
 PAIR = lot("at 0 0", "at 1 1")
 LINEAR = space("1", "x + y")
@@ -18,16 +18,6 @@ BAND = space("1", "x y")
 
 def polys(*found, dimension=2):
     return [poly(text, dimension) for text in found]
-
-
-class Checks(unittest.TestCase):
-
-    def assert_holds(self, certificate, wanted=True):
-        self.assertIs(certificate.holds(), wanted)
-        self.assertEqual(certificate.line(), certificate.NAME + (": holds" if wanted else ": does not hold"))
-
-    def assert_fails(self, certificate):
-        self.assert_holds(certificate, False)
 
 
 class Bases(Checks):
