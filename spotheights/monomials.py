@@ -62,6 +62,11 @@ def has_all_divisors(monomials):
     return True
 
 
+def next_multiples(exponents):
+    """The list of the products of the monomial and each of the variables."""
+    return [(*exponents[:k], exponents[k] + 1, *exponents[k + 1:]) for k in range(len(exponents))]
+
+
 def _check_pair(first, second):
     check_dimension(len(first))
     check_entries(second, len(first))

@@ -2,10 +2,13 @@
 
 import unittest
 from fractions import Fraction
+from itertools import permutations
 
+from spotheights.closure import filled
 from spotheights.errors import Dependent, TooWide
 from spotheights.lots import Lot
 from spotheights.monomials import monomials_up_to
+from spotheights.orders import Order
 from spotheights.polynomials import Polynomial
 from spotheights.polytext import read_polynomial
 from spotheights.questions import Question
@@ -178,3 +181,21 @@ def many_lots():
     told = [lot(*questions, dimension=dimension) for dimension, questions in OTHER_TEXTS]
     drawn = Drawn(101)
     return plain_lots() + told + [drawn.lot(dimension, many) for dimension in [1, 2, 3] for many in [2, 3, 5, 8]]
+
+
+def closed_lots():
+    """Closed lots of all kinds: the plain ones, and the others filled."""
+    return plain_lots() + [filled(found) for found in many_lots() if not found.plain]
+
+
+def open_lots():
+    """Lots that are not closed."""
+    return [found for found in many_lots() if len(filled(found)) > len(found)]
+
+
+def all_orders(dimension, kinds=("degree", "variables")):
+    return [Order(kind, ranking) for kind in kinds for ranking in permutations(range(dimension))]
+
+
+def times_variable(polynomial, variable):
+    return Polynomial.coordinate(polynomial.dimension, variable) * polynomial

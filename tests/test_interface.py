@@ -40,6 +40,15 @@ FUNCTIONS = {
     },
     "membership": {"belonging": ["lot", "polynomial"]},
     "orders": {"read_order": ["text"]},
+    "annihilation": {"annihilated_space": ["dimension", "operators", "*", "degree"]},
+    "rivals": {
+        "judge_fit": ["lot", "space"], "fit_in": ["lot", "space", "answers"], "judge_degrees": ["lot", "space"],
+    },
+    "lowersets": {
+        "is_lower": ["monomials"], "lower_sets": ["dimension", "size"], "fitting_sets": ["lot"],
+        "monomial_space": ["dimension", "monomials"],
+    },
+    "closure": {"judge_closure": ["lot"], "filled": ["lot"]},
 }
 
 CLASSES = {
@@ -78,6 +87,10 @@ CLASSES = {
     "orders": {"Order": {
         "__init__": ["self", "kind", "ranking"], "precedes": ["self", "first", "second"],
         "arranged": ["self", "monomials"], "__eq__": 2, "__str__": 1,
+    }},
+    "ideals": {"Ideal": {
+        "__init__": ["self", "lot", "order"], "normal_monomials": ["self"], "basis": ["self"], "heads": ["self"],
+        "__contains__": 2, "rest": ["self", "polynomial"], "multipliers": ["self", "polynomial"], "tops": ["self"],
     }},
     "certificates": {
         "Certificate": {"__init__": ["self", "lot"], "holds": ["self"], "polynomials": ["self"],

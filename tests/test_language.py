@@ -168,6 +168,15 @@ def top_level(file, files):
         if value and any(isinstance(part, (ast.Call, ast.Attribute, ast.Subscript, ast.ListComp))
                          for part in ast.walk(node.value)):
             yield f"L3 line {node.lineno}"
+        # What a table names are functions defined above it in the file, and it has no lists or dicts in it.
+        if value:
+            above = [other.name for other in file.tree.body[:at] if isinstance(other, ast.FunctionDef)]
+            if isinstance(node.value, (ast.List, ast.Dict, ast.Tuple)):
+                if {part.id for part in ast.walk(node.value) if isinstance(part, ast.Name)} - set(above):
+                    yield f"L3 table line {node.lineno}"
+            inner = [part for part in ast.walk(node.value) if isinstance(part, (ast.List, ast.Dict))]
+            if [part for part in inner if part is not node.value]:
+                yield f"L15 table line {node.lineno}"
     names = file.top_names()
     if len(names) != len(set(names)):
         yield "L15 bound twice"
@@ -207,7 +216,7 @@ def classes(file, files):
                 yield f"L18 {node.name}"
     for node in file.of(ast.FunctionDef):
         inside = isinstance(file.parents[node], ast.ClassDef)
-        if node.name == "__iter__" and not re.fullmatch(r"return iter\(self\.\w+\)", ast.unparse(node.body[-1])):
+        if node.name == "__iter__" and not re.fullmatch(r"return iter\(self(\.\w+){1,2}\)", ast.unparse(node.body[-1])):
             yield "L5 __iter__"
         if node.name == "__iter__" and len(node.body) > 1:
             yield "L5 __iter__"
@@ -261,12 +270,29 @@ def statements(file, files):
             if not isinstance(kind, ast.Name) or kind.id not in errors | {"KeyError", "ZeroDivisionError"}:
                 yield f"L19 line {node.lineno}"
     for node in file.of(ast.Raise):
-        if not isinstance(node.exc, ast.Call) or not isinstance(node.exc.func, ast.Name):
+        handler = handler_around(file, node)
+        if node.exc is None:
+            if handler is None:
+                yield f"L19 line {node.lineno}"
+        elif not isinstance(node.exc, ast.Call) or not isinstance(node.exc.func, ast.Name):
             yield f"L19 line {node.lineno}"
         elif node.exc.func.id not in errors or node.exc.keywords:
             yield f"L19 line {node.lineno}"
-        elif node.cause is not None and not (isinstance(node.cause, ast.Constant) and node.cause.value is None):
-            yield f"L19 line {node.lineno}"
+        elif node.cause is not None and ast.unparse(node.cause) not in {"None", getattr(handler, "name", None)}:
+            yield f"L19 cause line {node.lineno}"
+    for node in file.of(ast.FunctionDef):
+        told = [part.name for part in ast.walk(node) if isinstance(part, ast.ExceptHandler) and part.name]
+        bound = [part.id for part in ast.walk(node) if isinstance(part, ast.Name) and isinstance(part.ctx, ast.Store)]
+        bound += [part.arg for part in ast.walk(node) if isinstance(part, ast.arg)]
+        if len(told) != len(set(told)) or set(told) & set(bound):
+            yield f"L19 name in {node.name}"
+
+
+def handler_around(file, node):
+    """The handler in which the node stands, or None."""
+    while node in file.parents and not isinstance(node, (ast.ExceptHandler, ast.FunctionDef)):
+        node = file.parents[node]
+    return node if isinstance(node, ast.ExceptHandler) else None
 
 
 def values(file, files):
@@ -364,9 +390,11 @@ def run_by_signs(files):
     """The functions and methods that operators, properties and the like run, directly or through others."""
     defined = {}
     found = []
+    homes = {}
     for file in files:
         for node in file.of(ast.FunctionDef):
             home = file.parents[node]
+            homes[node] = getattr(home, "name", "")
             defined.setdefault(node.name, []).append(node)
             if node.name == "__init__":
                 defined.setdefault(home.name, []).append(node)
@@ -376,7 +404,11 @@ def run_by_signs(files):
         for part in ast.walk(node):
             if isinstance(part, ast.Call):
                 name = part.func.attr if isinstance(part.func, ast.Attribute) else getattr(part.func, "id", "")
-                found.extend([other for other in defined.get(name, []) if other not in found])
+                reached = defined.get(name, [])
+                # super().__init__ is one of a class above, not that of any class.
+                if name == "__init__":
+                    reached = [other for other in reached if homes[other] in family(homes[node], files)]
+                found.extend([other for other in reached if other not in found])
     return found
 
 
@@ -415,7 +447,9 @@ def signs(file, files):
                     target = target.func.value
                 if not isinstance(target, ast.Name) or target.id not in own:
                     yield f"L5 {part.func.attr} in {node.name}"
-            if isinstance(part, ast.Call) and isinstance(part.func, ast.Name) and part.func.id in told | set(bound) | loops:
+            # A class method makes its object by cls(..), which L5 allows.
+            called = part.func.id if isinstance(part, ast.Call) and isinstance(part.func, ast.Name) else "cls"
+            if called != "cls" and called in told | set(bound) | loops:
                 yield f"L5 call in {node.name}"
             if isinstance(part, (ast.Global, ast.Nonlocal)):
                 yield f"L5 {node.name}"
@@ -487,6 +521,16 @@ class Language(unittest.TestCase):
 
 
 BROKEN = """
+TABLE = {"a": later, "b": [1]}
+def later(): return 1
+def several():
+    try:
+        later()
+    except Bad as one:
+        raise Bad("x") from other
+    except Worse as one:
+        raise Bad("x") from one
+    raise
 import os
 from math import sqrt
 from spotheights.ratios import nothing
@@ -566,10 +610,26 @@ class Rules(unittest.TestCase):
             self.assertIn(text, found)
         self.assertIn("L5 super", " ".join(found))
 
+    def test_causes_and_names_of_errors_are_found(self):
+        broken = File("Len", BROKEN)
+        found = list(statements(broken, [File("errors", "class Bad(ValueError):\n    pass\n"), broken]))
+        self.assertEqual([text for text in found if "cause" in text or "name" in text],
+                         ["L19 cause line 8", "L19 name in several"])
+        self.assertIn("L19 line 11", found)
+        self.assertNotIn("L19 line 10", found)
+
+    def test_tables_are_looked_at(self):
+        found = list(top_level(File("Len", BROKEN), []))
+        self.assertIn("L3 table line 2", found)
+        self.assertIn("L15 table line 2", found)
+
     def test_what_operators_run_is_looked_through(self):
         names = {node.name for node in run_by_signs(package())}
-        for name in ["kernel", "echelon", "coordinates", "embedded", "_canonical_basis", "_check_independent"]:
+        for name in ["kernel", "echelon", "coordinates", "embedded", "_canonical_basis", "_check_independent",
+                     "answers_to", "place_of"]:
             self.assertIn(name, names)
+        # An error's super().__init__ is not that of any class.
+        self.assertNotIn("lowest_parts", names)
 
     def test_names_in_families_of_classes_are_found(self):
         first = File("a", "class A:\n    def low(self): return 1\n")
