@@ -19,6 +19,10 @@ class Fitter:
 
     def __call__(self, answers):
         """The polynomial of the least space with these answers."""
+        return self.fit_of(answers)
+
+    def fit_of(self, answers):
+        """The same as the call, for what cannot call an object."""
         many = len(self.lot)
         check_count(answers, many)
         return combination(self.lot.dimension, list(self.space), row_sum(answers, self._coordinates, width=many))
@@ -35,8 +39,7 @@ class Fitter:
 
 def fit(lot, answers):
     """The polynomial of the least space with these answers."""
-    fitter = Fitter(lot)
-    return fitter(answers)
+    return Fitter(lot).fit_of(answers)
 
 
 def project(lot, polynomial):

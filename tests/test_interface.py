@@ -49,6 +49,15 @@ FUNCTIONS = {
         "monomial_space": ["dimension", "monomials"],
     },
     "closure": {"judge_closure": ["lot"], "filled": ["lot"]},
+    "staircases": {"grid_lot": ["levels", "monomials"], "judge_staircase": ["lot"]},
+    "algebra": {
+        "variable_table": ["lot", "variable"], "multiply_answers": ["lot", "first", "second"], "unit_answers": ["lot"],
+    },
+    "motions": {
+        "follows_shifts": ["lot"], "stray_member": ["lot"], "follows_change": ["lot", "matrix"],
+        "stray_change": ["lot", "matrix"], "is_similarity": ["matrix"], "stray_lot": ["matrix"],
+    },
+    "newton": {"newton_basis": ["lot"], "newton_coefficients": ["lot", "answers"], "added_degrees": ["lot"]},
 }
 
 CLASSES = {
@@ -92,6 +101,14 @@ CLASSES = {
         "__init__": ["self", "lot", "order"], "normal_monomials": ["self"], "basis": ["self"], "heads": ["self"],
         "__contains__": 2, "rest": ["self", "polynomial"], "multipliers": ["self", "polynomial"], "tops": ["self"],
     }},
+    "survey": {"Survey": {
+        "__init__": ["self", "dimension"], "put": ["self", "name", "question", "answer"], "take": ["self", "name"],
+        "tell": ["self", "name", "answer"], "shift": ["self", "by"], "together": ["self", "deeds"], "undo": ["self"],
+        "redo": ["self"], "__len__": 1, "__iter__": 1, "__contains__": 2, "__getitem__": 2, "__setitem__": 3,
+        "question_of": ["self", "name"], "as_lot": ["self"], "told": ["self"], "least": ["self"], "growth": ["self"],
+        "fit": ["self"], "estimate": ["self", "question"],
+    }},
+    "desk": {"Desk": {"__init__": ["self", "dimension"], "run": ["self", "lines"]}},
     "certificates": {
         "Certificate": {"__init__": ["self", "lot"], "holds": ["self"], "polynomials": ["self"],
                         "weight_lists": ["self"], "line": ["self"]},
@@ -157,6 +174,14 @@ class Interface(unittest.TestCase):
                             self.assertEqual(names, told)
                         decorators = [node.id for node in inside[method].decorator_list]
                         self.assertEqual(decorators, [DECORATORS[method]] if method in DECORATORS else [])
+
+    def test_defaults(self):
+        for name, kind, method, wanted in [
+            ("ratios", "Ratio", "__init__", ["1"]), ("polynomials", "Polynomial", "__init__", ["()"]),
+            ("lots", "Lot", "__init__", ["()"]), ("spaces", "Space", "__init__", ["()"]), ("survey", "Survey", "put", ["None"]),
+        ]:
+            inside = {node.name: node for node in defined(name, ast.ClassDef)[kind].body if isinstance(node, ast.FunctionDef)}
+            self.assertEqual([ast.unparse(value) for value in inside[method].args.defaults], wanted)
 
     def test_the_package_file_has_a_docstring_alone(self):
         body = ast.parse((PACKAGE / "__init__.py").read_text()).body
