@@ -1,6 +1,6 @@
 """Products of answers: what the questions of a closed lot make of products of polynomials."""
 
-from spotheights.checks import check_count, check_index
+from spotheights.checks import check_index
 from spotheights.closure import closure_tables
 from spotheights.fitting import Fitter
 from spotheights.polynomials import Polynomial
@@ -23,8 +23,6 @@ def variable_table(lot, variable):
 def multiply_answers(lot, first, second):
     """The answers of the product of any two polynomials with these answers."""
     closure_tables(lot)
-    check_count(first, len(lot))
-    check_count(second, len(lot))
     fitter = Fitter(lot)
     return lot.ask(fitter.fit_of(first) * fitter.fit_of(second))
 

@@ -19,10 +19,11 @@ class Fitter:
 
     def __call__(self, answers):
         """The polynomial of the least space with these answers."""
+        # What an operator may run cannot call an object, so the work is done by a method with a name.
         return self.fit_of(answers)
 
     def fit_of(self, answers):
-        """The same as the call, for what cannot call an object."""
+        """The polynomial of the least space with these answers."""
         many = len(self.lot)
         check_count(answers, many)
         return combination(self.lot.dimension, list(self.space), row_sum(answers, self._coordinates, width=many))

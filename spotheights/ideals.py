@@ -44,7 +44,6 @@ class Ideal:
 
     def rest(self, polynomial):
         """The only combination of normal monomials with the answers of the polynomial."""
-        check_same(self, polynomial)
         numbers = row_sum(self.lot.ask(polynomial), self._coordinates, width=len(self._normal))
         return Polynomial(self.dimension, list(zip(self._normal, numbers)))
 

@@ -154,7 +154,8 @@ class Codes(Refusals):
         for line in [
             "", " ", "  ", " lot", "lot ", "lot  ", "fit\n", "\n", "oh", "LOT", "Lot", "lots", "put", "take", "tell",
             "forget", "shift", "belongs", "weights", "normal", "basis", "lot a", "script 1", "space x", "counts 1",
-            "fit a", "newton a", "closed a", "sets a", "stairs a", "undo 1", "redo a", "take a b", "take  a", "forget a b",
+            "fit a", "newton a", "closed a", "sets a", "stairs a", "undo 1", "redo a", "take a b", "take  a", "take ",
+            "forget a b", "forget ", "put  at 5 5", "tell  1", "shift 1 ", "belongs ", "weights ", "normal ", "undo ",
             "tell a", "tell a 1 2", "tell a  1", "tell  a 1", "tell a x", "tell a 6/4", "tell a +1", "tell a 1\n",
             "tell a " + "1" * 61, "tell a 1/" + "1" * 61, "tell a -0", "tell 1", "put d", "put d at", "put d at 0",
             "put d at 0 0 0", "put d at 0 0 ask", "put d at 0 0 ask 1", "put d at 0 0 ask 0", "put d at 0 0 ask z",

@@ -340,7 +340,7 @@ class Errors(Checks):
     def test_lists_are_new(self):
         for kind in ["degree", "variables"]:
             found = Ideal(lot("at 0 0", "at 1 1", "at 5 2"), Order(kind, [0, 1]))
-            before = [found.normal_monomials(), found.basis(), found.heads()]
+            before = [list(found.normal_monomials()), list(found.basis()), list(found.heads())]
             found.normal_monomials().clear()
             found.basis().clear()
             found.heads().clear()
